@@ -11,6 +11,7 @@ import (
 	"testing"
 
 	"wharfinger/api"
+	"wharfinger/probe"
 	"wharfinger/sum"
 )
 
@@ -22,17 +23,6 @@ var (
 	_ func(api.Sum) string            = sum.Text
 	_ [32]struct{}                    = [sum.Whole]struct{}{}
 )
-
-// pattern: bytes of which no two blocks are alike.
-func pattern(n int) []byte {
-	b := make([]byte, n)
-	x := uint32(n) + 1
-	for i := range b {
-		x = x*1664525 + 1013904223
-		b[i] = byte(x >> 24)
-	}
-	return b
-}
 
 func macOf(key, data []byte) api.Sum {
 	h := hmac.New(sha256.New, key)
@@ -59,7 +49,7 @@ func TestOfStandardExamples(t *testing.T) {
 // P1.1: every length around the ends of blocks, where the mark and the length need a block more or not.
 func TestOfEveryLength(t *testing.T) {
 	for n := range 400 {
-		b := pattern(n)
+		b := probe.Bytes(n)
 		if got, want := sum.Of(b), api.Sum(sha256.Sum256(b)); got != want {
 			t.Errorf("Of %d bytes: %x, not %x", n, got, want)
 		}
@@ -74,7 +64,7 @@ func TestOfParts(t *testing.T) {
 			t.Errorf("Of %d empty parts: %x", len(parts), got)
 		}
 	}
-	b := pattern(150)
+	b := probe.Bytes(150)
 	want := api.Sum(sha256.Sum256(b))
 	for i := range len(b) + 1 {
 		for j := i; j <= len(b); j++ {
@@ -100,7 +90,7 @@ func TestOfManyBits(t *testing.T) {
 	if testing.Short() {
 		t.Skip("sums half a gigabyte")
 	}
-	part := pattern(1 << 20)
+	part := probe.Bytes(1 << 20)
 	parts := make([][]byte, 513)
 	h := sha256.New()
 	for i := range parts {
@@ -114,7 +104,7 @@ func TestOfManyBits(t *testing.T) {
 
 // P1.2: the first n bytes, noughts behind them; n outside 0 to 32 is as the nearer end.
 func TestCut(t *testing.T) {
-	for _, b := range [][]byte{nil, {}, []byte("abc"), pattern(64), pattern(1000)} {
+	for _, b := range [][]byte{nil, {}, []byte("abc"), probe.Bytes(64), probe.Bytes(1000)} {
 		whole := sha256.Sum256(b)
 		for _, n := range []int{math.MinInt, -1000, -33, -32, -1, math.MaxInt, 1 << 30, 1000, 256, 65, 64, 33} {
 			want := api.Sum{}
@@ -165,9 +155,9 @@ func TestMacStandardExamples(t *testing.T) {
 // P1.3: keys around a block's length, above which they are summed first.
 func TestMacEveryKeyLength(t *testing.T) {
 	for n := range 140 {
-		key := pattern(n)
+		key := probe.Bytes(n)
 		for _, m := range []int{0, 1, 55, 56, 63, 64, 65, 200} {
-			data := pattern(m)
+			data := probe.Bytes(m)
 			if got, want := sum.Mac(key, data), macOf(key, data); got != want {
 				t.Errorf("Mac, key of %d, data of %d: %x, not %x", n, m, got, want)
 			}
@@ -177,7 +167,7 @@ func TestMacEveryKeyLength(t *testing.T) {
 
 // P1.3: the parts are one behind the other; the key is apart from them.
 func TestMacParts(t *testing.T) {
-	key, data := []byte("key"), pattern(130)
+	key, data := []byte("key"), probe.Bytes(130)
 	want := macOf(key, data)
 	for i := range len(data) + 1 {
 		if got := sum.Mac(key, data[:i], nil, data[i:]); got != want {
@@ -220,7 +210,7 @@ func TestText(t *testing.T) {
 // P2, rule 4: what is handed in is as it was, its spare room and the list of parts too.
 func TestArgumentsStay(t *testing.T) {
 	for _, n := range []int{0, 1, 55, 63, 64, 65, 100} {
-		room := pattern(200)
+		room := probe.Bytes(200)
 		part := room[:n]
 		parts := [][]byte{part, part, nil, part}[:2]
 		before := bytes.Clone(room)
@@ -242,8 +232,8 @@ func TestAnswersHangOnArgumentsAlone(t *testing.T) {
 	b := []byte("abc")
 	of, cut, mac := sum.Of(b), sum.Cut(7, b), sum.Mac(b, b)
 	b[0] = 'x'
-	sum.Of(pattern(100))
-	sum.Mac(pattern(100), pattern(50))
+	sum.Of(probe.Bytes(100))
+	sum.Mac(probe.Bytes(100), probe.Bytes(50))
 	if of != sum.Of([]byte("abc")) || cut != sum.Cut(7, []byte("abc")) || mac != sum.Mac([]byte("abc"), []byte("abc")) {
 		t.Error("an earlier call is to be seen in an answer")
 	}
@@ -254,7 +244,7 @@ func TestManyAtOnce(t *testing.T) {
 	var wg sync.WaitGroup
 	for n := range 16 {
 		wg.Go(func() {
-			b := pattern(n * 37)
+			b := probe.Bytes(n * 37)
 			for range 50 {
 				if sum.Of(b) != sha256.Sum256(b) || sum.Mac(b, b) != macOf(b, b) {
 					t.Errorf("%d bytes: another sum beside other calls", len(b))
@@ -270,8 +260,8 @@ func TestManyAtOnce(t *testing.T) {
 func FuzzAnyArguments(f *testing.F) {
 	f.Add(0, []byte(nil), []byte(nil))
 	f.Add(-1, []byte("key"), []byte("data"))
-	f.Add(math.MaxInt, pattern(64), pattern(65))
-	f.Add(math.MinInt, pattern(65), pattern(119))
+	f.Add(math.MaxInt, probe.Bytes(64), probe.Bytes(65))
+	f.Add(math.MinInt, probe.Bytes(65), probe.Bytes(119))
 	f.Fuzz(func(t *testing.T, n int, a, b []byte) {
 		both := append(bytes.Clone(a), b...)
 		if sum.Of(a, b) != sha256.Sum256(both) {

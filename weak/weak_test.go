@@ -4,6 +4,7 @@ import (
 	"bytes"
 	"testing"
 
+	"wharfinger/probe"
 	"wharfinger/weak"
 )
 
@@ -16,17 +17,6 @@ var (
 	_ func(weak.Sum) int                  = weak.Sum.Size
 	_ func(weak.Sum) uint32               = weak.Sum.Value
 )
-
-// pattern: bytes that come in no simple order, high ones among them.
-func pattern(n int) []byte {
-	b := make([]byte, n)
-	x := uint32(n) + 7
-	for i := range b {
-		x = x*1664525 + 1013904223
-		b[i] = byte(x >> 24)
-	}
-	return b
-}
 
 // valueOf reckons the value as the document words it, in numbers that don't wrap.
 func valueOf(b []byte) uint32 {
@@ -61,7 +51,7 @@ func TestExample(t *testing.T) {
 
 // P2.1: windows of all sizes, byte by byte; both halves go round at 2^16.
 func TestOfAndIn(t *testing.T) {
-	windows := [][]byte{pattern(3000), bytes.Repeat([]byte{255}, 3000), make([]byte, 300)}
+	windows := [][]byte{probe.Bytes(3000), bytes.Repeat([]byte{255}, 3000), make([]byte, 300)}
 	for _, b := range windows {
 		var s weak.Sum
 		for i, x := range b {
@@ -117,7 +107,7 @@ func TestSame(t *testing.T) {
 
 // P2.2: windows of many sizes go along many bytes.
 func TestRoll(t *testing.T) {
-	b := pattern(1500)
+	b := probe.Bytes(1500)
 	for _, n := range []int{1, 2, 3, 16, 255, 256, 257, 700, 1499} {
 		s := weak.Of(b[:n])
 		for i := n; i < len(b); i++ {
@@ -132,7 +122,7 @@ func TestRoll(t *testing.T) {
 
 // P2.2: a window is emptied from its front.
 func TestOut(t *testing.T) {
-	for _, b := range [][]byte{pattern(700), bytes.Repeat([]byte{255}, 700), make([]byte, 70)} {
+	for _, b := range [][]byte{probe.Bytes(700), bytes.Repeat([]byte{255}, 700), make([]byte, 70)} {
 		s := weak.Of(b)
 		for i, x := range b {
 			check(t, "Out", s, b[i:])
@@ -183,7 +173,7 @@ func TestOtherByte(t *testing.T) {
 
 // P2, rule 4: neither a window nor its spare room is changed or kept, nor is a sum that another one was had from.
 func TestArgumentsStay(t *testing.T) {
-	room := pattern(100)
+	room := probe.Bytes(100)
 	before := bytes.Clone(room)
 	s := weak.Of(room[:50])
 	value := s.Value()
