@@ -1,7 +1,11 @@
 // Package probe has what the tests of several packages need. The program itself doesn't call it.
 package probe
 
-import "wharfinger/api"
+import (
+	"errors"
+
+	"wharfinger/api"
+)
 
 // Bytes: so many bytes that come in no simple order, high ones among them, and others for each number.
 func Bytes(n int) []byte {
@@ -19,7 +23,8 @@ func Fault(err error) api.Fault {
 	if err == nil {
 		return api.Fault{}
 	}
-	if fault, ok := err.(*api.Fault); ok {
+	var fault *api.Fault
+	if errors.As(err, &fault) && error(fault) == err {
 		return *fault
 	}
 	return api.Fault{At: -1, Err: -1}
