@@ -2,9 +2,13 @@
 package probe
 
 import (
+	"bytes"
 	"errors"
+	"iter"
+	"slices"
 
 	"wharfinger/api"
+	"wharfinger/frame"
 )
 
 // Bytes: so many bytes that come in no simple order, high ones among them, and others for each number.
@@ -18,6 +22,35 @@ func Bytes(n int) []byte {
 	return b
 }
 
+// Rows: every row of these signs, of so many at most, the empty one first. Each is new memory.
+func Rows(signs []byte, most int) iter.Seq[[]byte] {
+	return func(yield func([]byte) bool) {
+		rows := [][]byte{nil} // all of one length
+		for n := range most + 1 {
+			var longer [][]byte
+			for _, row := range rows {
+				if !yield(slices.Clone(row)) {
+					return
+				}
+				for i := 0; i < len(signs) && n < most; i++ {
+					longer = append(longer, slices.Concat(row, signs[i:i+1]))
+				}
+			}
+			rows = longer
+		}
+	}
+}
+
+// Weak: the value of a window's weak sum as the document words it, in numbers that don't wrap.
+func Weak(b []byte) uint32 {
+	var low, high uint64
+	for i, x := range b {
+		low += uint64(x)
+		high += uint64(len(b)-i) * uint64(x)
+	}
+	return uint32(high%65536)<<16 | uint32(low%65536)
+}
+
 // Fault: the Fault that an error is itself, without anything around it; the zero one of nil; one that no call answers, if it is none.
 func Fault(err error) api.Fault {
 	if err == nil {
@@ -28,6 +61,11 @@ func Fault(err error) api.Fault {
 		return *fault
 	}
 	return api.Fault{At: -1, Err: -1}
+}
+
+// SameFrame: are two frames one, data that are nil and empty ones being the same?
+func SameFrame(f, g frame.Frame) bool {
+	return f.Kind == g.Kind && f.Stream == g.Stream && bytes.Equal(f.Data, g.Data)
 }
 
 // Spoil changes all bytes, and the spare room behind them, so that who shares them is found out.

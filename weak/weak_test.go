@@ -18,20 +18,10 @@ var (
 	_ func(weak.Sum) uint32               = weak.Sum.Value
 )
 
-// valueOf reckons the value as the document words it, in numbers that don't wrap.
-func valueOf(b []byte) uint32 {
-	var low, high uint64
-	for i, x := range b {
-		low += uint64(x)
-		high += uint64(len(b)-i) * uint64(x)
-	}
-	return uint32(high%65536)<<16 | uint32(low%65536)
-}
-
 func check(t *testing.T, what string, s weak.Sum, b []byte) {
 	t.Helper()
-	if s.Size() != len(b) || s.Value() != valueOf(b) {
-		t.Errorf("%s: size %d, value %08x, not %d, %08x", what, s.Size(), s.Value(), len(b), valueOf(b))
+	if s.Size() != len(b) || s.Value() != probe.Weak(b) {
+		t.Errorf("%s: size %d, value %08x, not %d, %08x", what, s.Size(), s.Value(), len(b), probe.Weak(b))
 	}
 	if s != weak.Of(b) {
 		t.Errorf("%s: not the sum of its window", what)
