@@ -341,18 +341,6 @@ func TestMakesApart(t *testing.T) {
 	}
 }
 
-// anySums: a signature of any shape. Each block has its weak sum and the first bytes of its strong one from a few bytes.
-func anySums(size, cut, length int, raw []byte) block.Signature {
-	s := block.Signature{Size: size, Cut: cut, Length: length}
-	for piece := range slices.Chunk(raw, 4) {
-		var b block.Block
-		b.Weak = uint32(piece[0]) << (piece[0] % 25)
-		copy(b.Strong[:], piece[1:])
-		s.Blocks = append(s.Blocks, b)
-	}
-	return s
-}
-
 // errnoOf checks as the document words it.
 func errnoOf(s block.Signature) api.Errno {
 	if s.Size < 1 || s.Size > 4096 || s.Cut < 0 || s.Cut > 32 || s.Length < 0 {
@@ -387,7 +375,7 @@ func FuzzAnySignature(f *testing.F) {
 	f.Add(math.MaxInt, math.MinInt, math.MaxInt, []byte(nil), math.MaxInt)
 	f.Add(1, 0, math.MaxInt, []byte(nil), math.MinInt)
 	f.Fuzz(func(t *testing.T, size, cut, length int, raw []byte, i int) {
-		s := anySums(size, cut, length, raw)
+		s := probe.AnySums(size, cut, length, raw)
 		want := errnoOf(s)
 		b, e := s.Bytes()
 		if got := s.Check(); got != want || e != want {

@@ -2,8 +2,6 @@ package block_test
 
 import (
 	"bytes"
-	"encoding/binary"
-	"errors"
 	"slices"
 	"testing"
 
@@ -13,20 +11,11 @@ import (
 	"wharfinger/probe"
 )
 
-// nums: numbers as the library writes them.
-func nums(list ...uint64) []byte {
-	var b []byte
-	for _, n := range list {
-		b = binary.AppendUvarint(b, n)
-	}
-	return b
-}
-
 // bytesOf writes sums as the document words it.
 func bytesOf(s block.Signature) []byte {
-	b := nums(uint64(s.Size), uint64(s.Cut), uint64(s.Length))
+	b := probe.Nums(uint64(s.Size), uint64(s.Cut), uint64(s.Length))
 	for _, x := range s.Blocks {
-		b = append(append(b, nums(uint64(x.Weak))...), x.Strong[:s.Cut]...)
+		b = append(append(b, probe.Nums(uint64(x.Weak))...), x.Strong[:s.Cut]...)
 	}
 	return b
 }
@@ -75,44 +64,44 @@ func TestReadWrong(t *testing.T) {
 		want api.Fault
 	}{
 		{"nothing", "", api.Fault{At: 0, Err: api.ErrShort}},
-		{"one number", string(nums(2)), api.Fault{At: 1, Err: api.ErrShort}},
-		{"two numbers", string(nums(2, 2)), api.Fault{At: 2, Err: api.ErrShort}},
-		{"half a third one", string(nums(300, 2)) + "\x80", api.Fault{At: 4, Err: api.ErrShort}},
+		{"one number", string(probe.Nums(2)), api.Fault{At: 1, Err: api.ErrShort}},
+		{"two numbers", string(probe.Nums(2, 2)), api.Fault{At: 2, Err: api.ErrShort}},
+		{"half a third one", string(probe.Nums(300, 2)) + "\x80", api.Fault{At: 4, Err: api.ErrShort}},
 		{"no first number", "\x80\x00\x02\x04", api.Fault{At: 0, Err: api.ErrForm}},
 		{"no second number", "\x02\x80\x00\x04", api.Fault{At: 1, Err: api.ErrForm}},
 		{"no third number", "\x02\x02\x80\x00", api.Fault{At: 2, Err: api.ErrForm}},
-		{"a third number too great", "\x02\x02" + string(nums(1<<40+1)), api.Fault{At: 2, Err: api.ErrRange}},
+		{"a third number too great", "\x02\x02" + string(probe.Nums(1<<40+1)), api.Fault{At: 2, Err: api.ErrRange}},
 		{"a wrong size and no third number", "\x00\x02\x80\x00", api.Fault{At: 2, Err: api.ErrForm}},
-		{"a wrong size and two numbers", string(nums(0, 2)), api.Fault{At: 2, Err: api.ErrShort}},
-		{"size 0", string(nums(0, 2, 0)), api.Fault{At: 0, Err: api.ErrRange}},
-		{"size 4097", string(nums(4097, 2, 0)), api.Fault{At: 0, Err: api.ErrRange}},
-		{"the greatest size", string(nums(1<<40, 2, 0)), api.Fault{At: 0, Err: api.ErrRange}},
-		{"cut 33", string(nums(2, 33, 0)), api.Fault{At: 0, Err: api.ErrRange}},
-		{"the greatest cut", string(nums(2, 1<<40, 4)), api.Fault{At: 0, Err: api.ErrRange}},
-		{"a cut and too many", string(nums(1, 33, 4097)), api.Fault{At: 0, Err: api.ErrRange}},
-		{"too many blocks", string(nums(1, 2, 4097)), api.Fault{At: 0, Err: api.ErrLong}},
-		{"too many great blocks", string(nums(4096, 2, 1<<24+1)), api.Fault{At: 0, Err: api.ErrLong}},
-		{"as many as can be told", string(nums(4096, 2, 1<<40)), api.Fault{At: 0, Err: api.ErrLong}},
-		{"no block", string(nums(2, 2, 4)), api.Fault{At: 3, Err: api.ErrShort}},
-		{"half a weak sum", string(nums(2, 2, 4)) + "\x80", api.Fault{At: 4, Err: api.ErrShort}},
-		{"no strong sum", string(nums(2, 2, 4, 5)), api.Fault{At: 4, Err: api.ErrShort}},
-		{"half a strong sum", string(nums(2, 2, 4, 5)) + "\x01", api.Fault{At: 5, Err: api.ErrShort}},
-		{"one block of two", string(nums(2, 2, 4, 5)) + strong, api.Fault{At: 6, Err: api.ErrShort}},
-		{"no weak sum", string(nums(2, 2, 4)) + "\x80\x00" + strong, api.Fault{At: 3, Err: api.ErrForm}},
-		{"no second weak sum", string(nums(2, 2, 4, 5)) + strong + "\x80\x00" + strong, api.Fault{At: 6, Err: api.ErrForm}},
-		{"a weak sum above all numbers", string(nums(2, 2, 4, 1<<40+1)) + strong, api.Fault{At: 3, Err: api.ErrRange}},
-		{"a weak sum too great", string(nums(2, 2, 2, big)) + strong, api.Fault{At: 3, Err: api.ErrRange}},
-		{"the greatest weak sum", string(nums(2, 2, 2, 1<<40)) + strong, api.Fault{At: 3, Err: api.ErrRange}},
-		{"a second weak sum too great", string(nums(2, 2, 3, 5)) + strong + string(nums(big)) + strong, api.Fault{At: 6, Err: api.ErrRange}},
-		{"a weak sum too great and no next block", string(nums(2, 2, 3, big)) + strong, api.Fault{At: 3, Err: api.ErrRange}},
-		{"a weak sum too great and a wrong next block", string(nums(2, 2, 3, big)) + strong + "\x80\x00", api.Fault{At: 3, Err: api.ErrRange}},
-		{"a weak sum too great and bytes left", string(nums(2, 2, 2, big)) + strong + "\x00", api.Fault{At: 3, Err: api.ErrRange}},
-		{"a weak sum too great, of which nothing else counts", string(nums(2, 0, 2, big)), api.Fault{At: 3, Err: api.ErrRange}},
+		{"a wrong size and two numbers", string(probe.Nums(0, 2)), api.Fault{At: 2, Err: api.ErrShort}},
+		{"size 0", string(probe.Nums(0, 2, 0)), api.Fault{At: 0, Err: api.ErrRange}},
+		{"size 4097", string(probe.Nums(4097, 2, 0)), api.Fault{At: 0, Err: api.ErrRange}},
+		{"the greatest size", string(probe.Nums(1<<40, 2, 0)), api.Fault{At: 0, Err: api.ErrRange}},
+		{"cut 33", string(probe.Nums(2, 33, 0)), api.Fault{At: 0, Err: api.ErrRange}},
+		{"the greatest cut", string(probe.Nums(2, 1<<40, 4)), api.Fault{At: 0, Err: api.ErrRange}},
+		{"a cut and too many", string(probe.Nums(1, 33, 4097)), api.Fault{At: 0, Err: api.ErrRange}},
+		{"too many blocks", string(probe.Nums(1, 2, 4097)), api.Fault{At: 0, Err: api.ErrLong}},
+		{"too many great blocks", string(probe.Nums(4096, 2, 1<<24+1)), api.Fault{At: 0, Err: api.ErrLong}},
+		{"as many as can be told", string(probe.Nums(4096, 2, 1<<40)), api.Fault{At: 0, Err: api.ErrLong}},
+		{"no block", string(probe.Nums(2, 2, 4)), api.Fault{At: 3, Err: api.ErrShort}},
+		{"half a weak sum", string(probe.Nums(2, 2, 4)) + "\x80", api.Fault{At: 4, Err: api.ErrShort}},
+		{"no strong sum", string(probe.Nums(2, 2, 4, 5)), api.Fault{At: 4, Err: api.ErrShort}},
+		{"half a strong sum", string(probe.Nums(2, 2, 4, 5)) + "\x01", api.Fault{At: 5, Err: api.ErrShort}},
+		{"one block of two", string(probe.Nums(2, 2, 4, 5)) + strong, api.Fault{At: 6, Err: api.ErrShort}},
+		{"no weak sum", string(probe.Nums(2, 2, 4)) + "\x80\x00" + strong, api.Fault{At: 3, Err: api.ErrForm}},
+		{"no second weak sum", string(probe.Nums(2, 2, 4, 5)) + strong + "\x80\x00" + strong, api.Fault{At: 6, Err: api.ErrForm}},
+		{"a weak sum above all numbers", string(probe.Nums(2, 2, 4, 1<<40+1)) + strong, api.Fault{At: 3, Err: api.ErrRange}},
+		{"a weak sum too great", string(probe.Nums(2, 2, 2, big)) + strong, api.Fault{At: 3, Err: api.ErrRange}},
+		{"the greatest weak sum", string(probe.Nums(2, 2, 2, 1<<40)) + strong, api.Fault{At: 3, Err: api.ErrRange}},
+		{"a second weak sum too great", string(probe.Nums(2, 2, 3, 5)) + strong + string(probe.Nums(big)) + strong, api.Fault{At: 6, Err: api.ErrRange}},
+		{"a weak sum too great and no next block", string(probe.Nums(2, 2, 3, big)) + strong, api.Fault{At: 3, Err: api.ErrRange}},
+		{"a weak sum too great and a wrong next block", string(probe.Nums(2, 2, 3, big)) + strong + "\x80\x00", api.Fault{At: 3, Err: api.ErrRange}},
+		{"a weak sum too great and bytes left", string(probe.Nums(2, 2, 2, big)) + strong + "\x00", api.Fault{At: 3, Err: api.ErrRange}},
+		{"a weak sum too great, of which nothing else counts", string(probe.Nums(2, 0, 2, big)), api.Fault{At: 3, Err: api.ErrRange}},
 		// Layer 3's errors of a block are named ahead of its ErrRange.
-		{"a weak sum too great and half a strong one", string(nums(2, 2, 2, big)) + "\x01", api.Fault{At: 9, Err: api.ErrShort}},
-		{"a byte left", string(nums(2, 2, 2, 5)) + strong + "\x00", api.Fault{At: 6, Err: api.ErrForm}},
-		{"a byte left behind no block", string(nums(2, 2, 0)) + "\x00", api.Fault{At: 3, Err: api.ErrForm}},
-		{"a block more", string(nums(2, 2, 2, 5)) + strong + "\x05" + strong, api.Fault{At: 6, Err: api.ErrForm}},
+		{"a weak sum too great and half a strong one", string(probe.Nums(2, 2, 2, big)) + "\x01", api.Fault{At: 9, Err: api.ErrShort}},
+		{"a byte left", string(probe.Nums(2, 2, 2, 5)) + strong + "\x00", api.Fault{At: 6, Err: api.ErrForm}},
+		{"a byte left behind no block", string(probe.Nums(2, 2, 0)) + "\x00", api.Fault{At: 3, Err: api.ErrForm}},
+		{"a block more", string(probe.Nums(2, 2, 2, 5)) + strong + "\x05" + strong, api.Fault{At: 6, Err: api.ErrForm}},
 	} {
 		s, err := block.Read([]byte(c.in))
 		if probe.Fault(err) != c.want || !isZero(s) {
@@ -177,11 +166,8 @@ func TestReadingAndWritingShareNothing(t *testing.T) {
 // P2, rule 4: an error that was written into isn't kept.
 func TestErrorsAreNew(t *testing.T) {
 	for _, in := range []string{"", "\x00\x00\x00", "\x01\x02\x81\x20", "\x02\x00\x02\x80\x80\x80\x80\x10", "\x02\x00\x00\x00"} {
-		_, first := block.Read([]byte(in))
-		want := probe.Fault(first)
-		first.(*api.Fault).At = 77
-		if _, err := block.Read([]byte(in)); probe.Fault(err) != want || !errors.Is(err, want.Err) {
-			t.Errorf("Read of %x: %v, not %v", in, err, want.Error())
+		if !probe.NewFaults(func() error { _, err := block.Read([]byte(in)); return err }) {
+			t.Errorf("Read of %x", in)
 		}
 	}
 }
@@ -237,9 +223,9 @@ func FuzzRead(f *testing.F) {
 		}
 	}
 	f.Add([]byte{})
-	f.Add(nums(1, 33, 4097))
-	f.Add(nums(1, 0, 4096))
-	f.Add(append(nums(2, 2, 3, 1<<32), 1, 2, 5, 1, 2))
+	f.Add(probe.Nums(1, 33, 4097))
+	f.Add(probe.Nums(1, 0, 4096))
+	f.Add(append(probe.Nums(2, 2, 3, 1<<32), 1, 2, 5, 1, 2))
 	f.Fuzz(func(t *testing.T, b []byte) {
 		before := bytes.Clone(b)
 		want, fault := readAs(b)
